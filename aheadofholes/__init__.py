@@ -1,0 +1,1 @@
+"""Aheadofholes: what strangers may answer, unheard by one another."""
