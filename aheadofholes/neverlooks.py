@@ -98,7 +98,9 @@ def _is_ring(rows, numbers):
 
 
 def _leads_to(row, then):
-    """Whether a row goes from a hole to a tree, no hole, in which the next row's first side stands, a hole, too."""
-    hole, tree = row[0][1], row[1][1]
-    which, inner = then[0]
-    return is_hole(hole) and not is_hole(tree) and is_hole(inner) and which == row[1][0] and inner in holes_in(tree)
+    """Whether a row's second side is no hole, and the next row's first side, a hole, stands in it.
+
+    As each row of a ring is the next one of another, or of itself, the first sides are all looked at.
+    """
+    which, tree = row[1]
+    return not is_hole(tree) and then[0][0] == which and then[0][1] in holes_in(tree)

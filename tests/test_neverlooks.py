@@ -150,6 +150,15 @@ class Rows(unittest.TestCase):
         row = ((0, X), (1, X), ("part", 1, 0))
         self.assertIs(shows_never(one, other, (rows + (row,), ("clash", 1))), False)
 
+    def test_a_hole_has_no_parts(self):
+        one, other = read("l.v(xy, l.a, y)"), read("l.v(xy, l.b, y)")
+        rows = (((0, one), (1, other), ("start",)), ((0, ("l.a",)), (1, ("l.b",)), ("part", 0, 1)),
+                ((0, "xy"), (1, "xy"), ("part", 0, 0)))
+        self.assertIs(shows_never(one, other, (rows, ("clash", 1))), True)
+        for ground in [("part", 2, 0), ("part", 2, 1), ("part", 2, -1)]:
+            row = ((0, Y), (1, Y), ground)
+            self.assertIs(shows_never(one, other, (rows + (row,), ("clash", 1))), False)
+
     def test_over_rows_that_do_not_follow(self):
         for ground in [("over", 2, 3), ("over", 1, 2), ("over", 3, 1), ("over", 3, 3), ("over", 0, 2)]:
             self.assertIs(self.told(4, self.ROWS[4][:2] + (ground,)), False)
