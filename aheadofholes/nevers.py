@@ -49,7 +49,7 @@ def _rows_for(sames, ends):
     kept = sorted(needed)
     places = {number: place for place, number in enumerate(kept)}
     rows = tuple([_row_in_paper(sames, number, places) for number in kept])
-    return rows, [places[number] for number in ends]
+    return (rows, [places[number] for number in ends])
 
 
 def _rows_named(ground):
@@ -61,4 +61,5 @@ def _rows_named(ground):
 def _row_in_paper(sames, number, places):
     first, second, ground = sames.rows[number]
     named = [places[row] for row in _rows_named(ground)]
-    return (sames.shelf.sides[first], sames.shelf.sides[second], (ground[0], *named, *ground[1 + len(named):]))
+    ground = ground[:1] + tuple(named) + ground[1 + len(named):]
+    return (sames.shelf.sides[first], sames.shelf.sides[second], ground)
