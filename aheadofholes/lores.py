@@ -28,20 +28,20 @@ def is_lore(thing):
     if type(thing) is not tuple or len(thing) != 2:
         return False
     words, verbs = thing
-    if not _are_rising(words, is_word) or not _are_rising(verbs, is_verb):
+    if not are_rising(words, is_word) or not are_rising(verbs, is_verb):
         return False
-    told = _parts_by_name(words)
+    told = parts_by_name(words)
     return not any([verb[0] in told for verb in verbs])
 
 
-def _are_rising(things, is_one):
+def are_rising(things, is_one):
     """Whether it is a tuple of such things that rises with full names that are all unlike."""
     if type(things) is not tuple or not all([is_one(thing) for thing in things]):
         return False
     return all([one[0] < other[0] for one, other in zip(things, things[1:])])
 
 
-def _parts_by_name(told):
+def parts_by_name(told):
     """How many parts each of these words, or of these verbs, has, by its full name."""
     return {row[0]: len(row[1]) for row in told}
 
@@ -49,11 +49,12 @@ def _parts_by_name(told):
 def is_of(lore, head):
     """Whether a head has the name of a verb of the lore, and within it those of words, with as many parts."""
     words, verbs = lore
-    if not is_tree(head) or is_hole(head) or not _has_parts(head, _parts_by_name(verbs)):
+    if not is_tree(head) or is_hole(head) or not has_parts(head, parts_by_name(verbs)):
         return False
-    many = _parts_by_name(words)
-    return all([is_hole(tree) or _has_parts(tree, many) for tree in trees_in(head)[1:]])
+    many = parts_by_name(words)
+    return all([is_hole(tree) or has_parts(tree, many) for tree in trees_in(head)[1:]])
 
 
-def _has_parts(tree, many):
+def has_parts(tree, many):
+    """Whether a tree, no hole, has a full name of these, and as many parts as they tell of it."""
     return many.get(tree[0]) == len(tree) - 1

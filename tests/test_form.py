@@ -18,6 +18,16 @@ INTERFACE = {
     "nevers": {"never": "one other"},
     "neverlooks": {"shows_never": "one other thing"},
     "lores": {"is_word": "thing", "is_verb": "thing", "is_lore": "thing", "is_of": "lore head"},
+    "looking": {"looked": "lore head"},
+    "editions": {"is_edition": "thing"},
+    "sights": {"sight": "book edition", "lore_of": "book edition", "keeper": "book edition verb"},
+    "rule": {"fate": "book edition number", "let_by": "book edition", "is_book": "thing"},
+    "strangers": {"stranger": "book edition number"},
+    "strangerlooks": {"shows_stranger": "book edition number thing"},
+    "houses": {"part": "book keys", "who": "book form", "answers": "book form"},
+}
+CLASSES = {
+    "yards": {"Yard": {"publish": "self edition", "book": "self", "__len__": "self"}},
 }
 
 BUILTINS = set("""len range enumerate zip min max sum abs sorted reversed int str bool list tuple dict set isinstance any all
@@ -25,7 +35,7 @@ BUILTINS = set("""len range enumerate zip min max sum abs sorted reversed int st
 METHODS = set("""append clear copy count endswith extend find get index insert items join keys pop remove replace reverse
     setdefault split startswith update values add""".split())
 STATEMENTS = """Module Expr ImportFrom alias FunctionDef ClassDef arguments arg Return Assign AugAssign For While If Raise
-    Break Continue Pass Delete"""
+    Break Continue Pass Delete Try ExceptHandler"""
 EXPRESSIONS = """BoolOp BinOp UnaryOp Lambda IfExp Dict Set ListComp SetComp DictComp GeneratorExp comprehension Compare
     Call keyword JoinedStr FormattedValue Constant Attribute Subscript Starred Name List Tuple Slice Load Store Del"""
 SIGNS = "And Or Add Sub Mult Not USub Eq NotEq Lt LtE Gt GtE Is IsNot In NotIn"
@@ -173,7 +183,7 @@ class Code(unittest.TestCase):
             for word in own_names(tree):
                 self.assertNotIn(word, BARRED, name)
                 self.assertNotIn(word, dir(builtins), name)
-                if word not in ("__init__", "_"):
+                if word not in ("__init__", "__len__", "_"):
                     self.assertRegex(word, r"^_?[A-Za-z][A-Za-z0-9_]*$", name)
 
     def test_no_local_name_is_that_of_an_import_or_a_class(self):
@@ -245,6 +255,33 @@ class Code(unittest.TestCase):
                     names = [func.id if isinstance(func, ast.Name) else func.attr for func in called]
                     self.assertNotIn(node.name, names, name)
 
+    def test_only_errors_of_its_own_are_caught(self):
+        for name, tree in trees().items():
+            for node in ast.walk(tree):
+                if isinstance(node, ast.ExceptHandler):
+                    self.assertIn(node.type.id, bound(trees()["errors"]), name)
+                    self.assertIsNone(node.name, name)
+                if isinstance(node, ast.Try):
+                    self.assertEqual((node.orelse, node.finalbody), ([], []), name)
+
+    def test_a_length_is_a_len(self):
+        for name, tree in trees().items():
+            for node in ast.walk(tree):
+                if isinstance(node, ast.FunctionDef) and node.name == "__len__":
+                    self.assertEqual(node.body[-1].value.func.id, "len", name)
+
+    def test_sets_are_sorted_or_asked_at_once(self):
+        for name, tree in trees().items():
+            taken = set()
+            for node in ast.walk(tree):
+                if isinstance(node, ast.Call) and isinstance(node.func, ast.Name) and node.func.id in ("sorted", "len"):
+                    taken.add(id(node.args[0]))
+                if isinstance(node, ast.Assign):
+                    taken.add(id(node.value))
+            for node in ast.walk(tree):
+                if isinstance(node, (ast.SetComp, ast.Set)):
+                    self.assertIn(id(node), taken, (name, node.lineno))
+
     def test_errors_are_made_where_they_are_raised(self):
         for name, tree in trees().items():
             for node in ast.walk(tree):
@@ -260,6 +297,15 @@ class Interface(unittest.TestCase):
                 function = getattr(module, name)
                 self.assertEqual(function.__module__, f"aheadofholes.{file}")
                 self.assertEqual(list(inspect.signature(function).parameters), arguments.split())
+
+    def test_classes_and_the_methods_in_their_own_bodies(self):
+        for file, classes in CLASSES.items():
+            module = importlib.import_module(f"aheadofholes.{file}")
+            for name, methods in classes.items():
+                made = getattr(module, name)
+                self.assertEqual(made.__module__, f"aheadofholes.{file}")
+                for method, arguments in methods.items():
+                    self.assertEqual(list(inspect.signature(vars(made)[method]).parameters), arguments.split())
 
 
 if __name__ == "__main__":

@@ -1,0 +1,254 @@
+"""The plainest ways to what is told of editions and books, word by word as the document tells it. They may be slow."""
+import re
+
+from tests.reference import is_number
+
+
+def is_text(thing, pattern):
+    return type(thing) is str and re.fullmatch(pattern, thing) is not None and "\n" not in thing
+
+
+def is_name(thing):
+    return is_text(thing, "[a-z]{1,8}")
+
+
+def is_full(thing):
+    return is_text(thing, r"[a-z]{1,8}\.[a-z]{1,8}")
+
+
+def is_tree(thing):
+    if type(thing) is not tuple:
+        return is_name(thing)
+    return 1 <= len(thing) <= 4 and is_full(thing[0]) and all(is_tree(inner) for inner in thing[1:])
+
+
+def holes(tree):
+    return {tree} if type(tree) is str else {hole for inner in tree[1:] for hole in holes(inner)}
+
+
+def is_each(thing, *kinds):
+    return type(thing) is tuple and len(thing) == len(kinds) and all(kind(inner) for kind, inner in zip(kinds, thing))
+
+
+def is_every(thing, kind):
+    return type(thing) is tuple and all(kind(inner) for inner in thing)
+
+
+def rises(thing):
+    return list(thing) == sorted(set(thing))
+
+
+def is_order(thing):
+    return is_every(thing, lambda number: is_number(number, 3)) and sorted(thing) == list(range(len(thing)))
+
+
+def is_key(thing):
+    return is_each(thing, is_name, lambda number: type(number) is int and number > 0)
+
+
+def is_edition(thing):
+    if type(thing) is not tuple or len(thing) != 7:
+        return False
+    line, number, sees, words, verbs, gives, rows = thing
+    if not is_key((line, number)) or not is_every(sees, is_key) or not rises(sees):
+        return False
+    if not is_every(words, lambda word: is_each(word, is_full, is_order)) or not rises(words):
+        return False
+    ways = lambda way: type(way) is str and way in ("deep", "wide")
+    if not is_every(verbs, lambda verb: is_each(verb, is_full, is_order, ways)) or not rises(verbs):
+        return False
+    names = [told[0] for told in words + verbs]
+    if len(names) != len(set(names)) or any(name.split(".")[0] != line for name in names):
+        return False
+    if not is_every(gives, lambda pair: is_each(pair, is_full, is_name)) or not rises(gives):
+        return False
+    if len(gives) != len(dict(gives)):
+        return False
+    return is_every(rows, lambda row: is_each(row, lambda head: is_tree(head) and type(head) is tuple, is_tree))
+
+
+def keys_seen(book, edition):
+    """What it sees, and what those see, till nothing comes to it any more."""
+    by_key = {other[:2]: other for other in book}
+    found, before = [edition], 0
+    while len(found) > before:
+        before = len(found)
+        wanted = set()
+        for other in found:
+            wanted |= set(other[2]) | {(other[0], number) for number in range(1, other[1])}
+        found = [edition] + [by_key[key] for key in wanted]
+    return {other[:2] for other in found[1:]}
+
+
+def sight(book, edition):
+    wanted = keys_seen(book, edition)
+    return tuple(other for other in book if other[:2] in wanted)
+
+
+def are_strangers(book, one, other):
+    return one[:2] not in keys_seen(book, other) and other[:2] not in keys_seen(book, one)
+
+
+def lore_of(book, edition):
+    told = sight(book, edition) + (edition,)
+    return tuple(tuple(sorted(set().union(*[set(other[at]) for other in told]))) for at in (3, 4))
+
+
+def keeper(book, edition, verb):
+    gifts = [dict(other[5])[verb] for other in sight(book, edition) if verb in dict(other[5])]
+    return (verb.split(".")[:1] + gifts)[-1]
+
+
+def orders(lore):
+    return {told[0]: told[1] for told in lore[0] + lore[1]}
+
+
+def met_deep(lore, place, tree):
+    """All steps of looking deep, as if holes didn't end it."""
+    if type(tree) is str:
+        return [(place, tree)]
+    found = [(place, tree[0])]
+    for number in orders(lore)[tree[0]]:
+        found += met_deep(lore, place + (number,), tree[number + 1])
+    return found
+
+
+def met_wide(lore, head):
+    """All steps of looking wide, row by row, as if holes didn't end it."""
+    found, row = [], [((), head)]
+    while row:
+        found += [(place, tree if type(tree) is str else tree[0]) for place, tree in row]
+        row = [(place + (number,), tree[number + 1]) for place, tree in row if type(tree) is not str
+               for number in orders(lore)[tree[0]]]
+    return found
+
+
+def looked(lore, head):
+    way = [verb[2] for verb in lore[1] if verb[0] == head[0]][0]
+    steps = met_deep(lore, (), head) if way == "deep" else met_wide(lore, head)
+    ends = [at for at, (_, symbol) in enumerate(steps) if "." not in symbol]
+    return tuple(steps[:ends[0] + 1] if ends else steps)
+
+
+def fits(head, form):
+    put = {}
+
+    def fit(one, other):
+        if type(one) is str:
+            return put.setdefault(one, other) == other
+        return one[0] == other[0] and len(one) == len(other) and all(fit(a, b) for a, b in zip(one[1:], other[1:]))
+
+    return fit(head, form)
+
+
+def who(book, form):
+    return tuple((edition[:2], number) for edition in book for number in range(len(edition[6]))
+                 if fits(edition[6][number][0], form))
+
+
+def answers(book, form):
+    """By the words: of the edition that sees all others that have such a row the first one."""
+    found = who(book, form)
+    having = [edition for edition in book if edition[:2] in {key for key, _ in found}]
+    tops = [edition for edition in having
+            if all(other[:2] in keys_seen(book, edition) for other in having if other != edition)]
+    if not found:
+        return None
+    assert len(tops) == 1, form
+    return min(row for row in found if row[0] == tops[0][:2])
+
+
+def fate(book, edition, number):
+    head = edition[6][number][0]
+    steps = looked(lore_of(book, edition), head)
+    own = {told[0] for told in edition[3] + edition[4]}
+    for step, (_, symbol) in enumerate(steps):
+        if symbol in own:
+            return ("own", step)
+    if holes(head):
+        return ("holed", len(steps) - 1)
+    found = answers(sight(book, edition), head)
+    if found:
+        return ("answered",) + found
+    return ("home",) if keeper(book, edition, head[0]) == edition[0] else ("stray",)
+
+
+def names_due(tree, own, within):
+    """The full names of a tree that aren't due, from the left: own tells what may stand at its top, within what below."""
+    if type(tree) is str:
+        return []
+    found = [] if (tree[0], len(tree) - 1) in own else [tree[0]]
+    for inner in tree[1:]:
+        found += names_due(inner, within, within)
+    return found
+
+
+def unheard(book, edition):
+    words, verbs = [{(told[0], len(told[1])) for told in row} for row in lore_of(book, edition)]
+    found = [verb for verb, _ in edition[5] if verb not in dict(verbs)]
+    for head, answer in edition[6]:
+        found += names_due(head, verbs, words) + names_due(answer, words | verbs, words | verbs)
+    return found
+
+
+def refusals(book, edition):
+    """All that is due, one behind another in the order that the document names."""
+    if not is_edition(edition):
+        yield ("NoEdition",)
+        return
+    line, number, sees, words, verbs, gives, rows = edition
+    out = [other[:2] for other in book]
+    if number != len([key for key in out if key[0] == line]) + 1:
+        yield ("NotNext", number)
+    for key in sees:
+        if key not in out:
+            yield ("NotOut", key)
+    ahead = [told[0] for other in book if other[0] == line for told in other[3] + other[4]]
+    for told in words + verbs:
+        if told[0] in ahead:
+            yield ("Told", told[0])
+    for name in unheard(book, edition):
+        yield ("Unheard", name)
+    for verb, _ in gives:
+        if keeper(book, edition, verb) != line:
+            yield ("NotKept", verb)
+    for at, (head, answer) in enumerate(rows):
+        if holes(answer) - holes(head):
+            yield ("Loose", at)
+    for at in range(len(rows)):
+        word, *told = fate(book, edition, at)
+        if word in ("holed", "answered", "stray"):
+            yield (word.capitalize(), at, *told[:1])
+
+
+def refusal(book, edition):
+    return next(refusals(book, edition), None)
+
+
+def is_book(thing):
+    return type(thing) is tuple and all(refusal(thing[:at], edition) is None for at, edition in enumerate(thing))
+
+
+def is_of(lore, form):
+    words, verbs = [{(told[0], len(told[1])) for told in row} for row in lore]
+    return not names_due(form, verbs, words)
+
+
+def shows_stranger(book, edition, number, thing):
+    if not is_each(thing, is_edition, lambda form: is_tree(form) and not holes(form)):
+        return False
+    other, form = thing
+    seen = sight(book, edition)
+    if other[0] == edition[0] or refusal(seen, other) is not None:
+        return False
+    told = seen + (edition, other)
+    lore = tuple(tuple(sorted(set().union(*[set(row[at]) for row in told]))) for at in (3, 4))
+    return is_of(lore, form) and fits(edition[6][number][0], form) and bool(who((other,), form))
+
+
+def caught(function, *handed):
+    """What a function tells, or the name and the values of what it refuses."""
+    try:
+        return function(*handed)
+    except ValueError as refused:
+        return (type(refused).__name__, *vars(refused).values())
