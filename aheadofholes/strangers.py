@@ -61,7 +61,8 @@ def _widest(head, ahead, end, full):
         parts = []
         for number in range(len(tree_at(head, place)) - 1):
             hole = nth_name(len(holes))
-            holes[(*place, number)] = hole
+            below = (*place, number)
+            holes[below] = hole
             parts.append(hole)
         tree = put_for(tree, [(holes[place], (symbol, *parts))])
     return renamed(put_for(tree, [(holes[end], (full,))]))

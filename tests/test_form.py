@@ -85,6 +85,12 @@ def own_names(tree):
     return found
 
 
+def stars_in_brackets(tree):
+    """The rows of a file on which a star stands in the brackets of a subscript."""
+    return [inner.lineno for node in ast.walk(tree) if isinstance(node, ast.Subscript)
+            for inner in ast.walk(node.slice) if isinstance(inner, ast.Starred)]
+
+
 class Files(unittest.TestCase):
     def test_only_python_files(self):
         for path in PACKAGE.iterdir():
@@ -157,6 +163,18 @@ class Code(unittest.TestCase):
                 self.assertIn(type(node).__name__, NODES, (name, getattr(node, "lineno", 0)))
                 if isinstance(node, (ast.FunctionDef, ast.ClassDef)):
                     self.assertEqual(node.decorator_list, [], name)
+
+    def test_no_star_stands_in_the_brackets_of_a_subscript(self):
+        for name, tree in trees().items():
+            self.assertEqual(stars_in_brackets(tree), [], name)
+
+    def test_stars_in_brackets_are_found_in_what_is_read_and_in_what_is_assigned(self):
+        for text in ["y = xs[(*a, 1)]", "xs[(*a, 1)] = y", "xs[*a] = y", "y = xs[1, *a]", "xs[(1, *a)] += y", "del xs[(*a,)]",
+                     "y = xs[[*a][0]]", "def f(a):\n    return {}.get(1)[(*a, 2)]", "y = [xs[(0, *a)] for a in b]",
+                     "xs[0][(*a, 1)] = y", "xs[(*a, 1)][0] = y", "for xs[(*a,)] in b:\n    pass", "y = xs[1:len([*a])]"]:
+            self.assertTrue(stars_in_brackets(ast.parse(text)), text)
+        for text in ["y = (*a, xs[1])", "y = [*xs[1]]", "place = (*a, 1)\nxs[place] = y", "first, *xs[1:] = a", "f(*xs[0])"]:
+            self.assertEqual(stars_in_brackets(ast.parse(text)), [], text)
 
     def test_the_top_of_a_file(self):
         for name, tree in trees().items():
