@@ -1,4 +1,5 @@
 """Which forms a head matches, and which head is an instance of which."""
+from aheadofholes.kinds import is_just
 from aheadofholes.trees import begin_alike, is_hole
 
 
@@ -9,7 +10,9 @@ def match(head, form):
     while left:
         wanted, there = left.pop()
         if is_hole(wanted):
-            if put.setdefault(wanted, there) != there:
+            if wanted not in put:
+                put[wanted] = there
+            elif not is_just(there, put[wanted]):
                 return None
         elif is_hole(there) or not begin_alike(wanted, there):
             return None

@@ -1,6 +1,7 @@
 """The stranger who would meet a row that is holed or stray."""
-from aheadofholes.editions import GIVES, LINE, ROWS, key_of
+from aheadofholes.editions import ROWS
 from aheadofholes.looking import looked
+from aheadofholes.makings import keys_in, line_unlike, next_with
 from aheadofholes.rule import fate
 from aheadofholes.sights import keeper_in, lore_told, sight
 from aheadofholes.trees import holes_in, nth_name, put_for, renamed, tree_at
@@ -16,9 +17,9 @@ def stranger(book, edition, number):
     seen = sight(book, edition)
     if word == "holed":
         steps = looked(lore_told([*seen, edition]), head)
-        return _for_holed(_line_unlike([*book, edition]), seen, head, steps)
+        return _for_holed(line_unlike([*book, edition]), seen, head, steps)
     if word == "stray":
-        return _for_stray(keeper_in(seen, head[0]), seen, head)
+        return (next_with(keeper_in(seen, head[0]), seen, head), head)
     return None
 
 
@@ -28,29 +29,7 @@ def _for_holed(line, seen, head, steps):
     row = (_widest(head, steps[:-1], place, full), (full,))
     # The word, without parts, may stand in the places of the head's other holes, too.
     form = put_for(head, [(hole, (full,)) for hole in holes_in(head)])
-    return ((line, 1, _keys_in(seen), ((full, ()),), (), (), (row,)), form)
-
-
-def _for_stray(line, seen, form):
-    number = 1 + len([edition for edition in seen if edition[LINE] == line])
-    return ((line, number, _keys_in(seen), (), (), (), ((form, form),)), form)
-
-
-def _keys_in(seen):
-    return tuple(sorted([key_of(edition) for edition in seen]))
-
-
-def _line_unlike(editions):
-    """A line that none of the editions is of, nor gives anything to."""
-    taken = {}
-    for edition in editions:
-        taken[edition[LINE]] = True
-        for _, line in edition[GIVES]:
-            taken[line] = True
-    number = 0
-    while nth_name(number) in taken:
-        number += 1
-    return nth_name(number)
+    return ((line, 1, keys_in(seen), ((full, ()),), (), (), (row,)), form)
 
 
 def _widest(head, ahead, end, full):

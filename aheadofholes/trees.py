@@ -70,6 +70,21 @@ def trees_in(tree):
     return found
 
 
+def trees_from_right(tree):
+    """The list of all trees that stand in a tree, itself first, as they come from the right.
+
+    Backwards, each tree stands behind its parts, and these from the left as written.
+    """
+    found = []
+    left = [tree]
+    while left:
+        part = left.pop()
+        found.append(part)
+        if not is_hole(part):
+            left.extend(part[1:])
+    return found
+
+
 def holes_in(tree):
     """The tuple of a tree's holes, each once, as they first come from the left as written."""
     found = {}
@@ -84,19 +99,22 @@ def names_in(tree):
     return tuple([part[0] for part in trees_in(tree) if not is_hole(part)])
 
 
+def taken_off(made, many):
+    """The last things of a list, so many, which are taken off it."""
+    at = len(made) - many
+    taken = made[at:]
+    del made[at:]
+    return taken
+
+
 def built(tree, of_hole, of_name):
     """What is made of a tree from below: of_hole(hole), and of_name(full, what was made of the parts)."""
     made = []
-    # Behind a tree come its parts, so backwards they are made first, the first part last.
-    for part in reversed(trees_in(tree)):
+    for part in reversed(trees_from_right(tree)):
         if is_hole(part):
             made.append(of_hole(part))
         else:
-            at = len(made) - (len(part) - 1)
-            parts = made[at:]
-            parts.reverse()
-            del made[at:]
-            made.append(of_name(part[0], parts))
+            made.append(of_name(part[0], taken_off(made, len(part) - 1)))
     return made[0]
 
 

@@ -246,6 +246,87 @@ def shows_stranger(book, edition, number, thing):
     return is_of(lore, form) and fits(edition[6][number][0], form) and bool(who((other,), form))
 
 
+def places(tree, place=()):
+    """All places of a tree, from the left as written."""
+    if type(tree) is str:
+        return [place]
+    return [place] + [inner for at, part in enumerate(tree[1:]) for inner in places(part, place + (at,))]
+
+
+def at_place(tree, place):
+    return at_place(tree[place[0] + 1], place[1:]) if place else tree
+
+
+def put_at(tree, place, worth):
+    if not place:
+        return worth
+    at = place[0] + 1
+    return tree[:at] + (put_at(tree[at], place[1:], worth),) + tree[at + 1:]
+
+
+def put_for(tree, put):
+    return put[tree] if type(tree) is str else (tree[0], *[put_for(inner, put) for inner in tree[1:]])
+
+
+def puts(head, form):
+    """What stands in the form where the head's holes stand."""
+    return {at_place(head, place): at_place(form, place) for place in places(head) if type(at_place(head, place)) is str}
+
+
+def told_by(row, form):
+    """What a row tells of a form that its head matches, its asks not worked out."""
+    return put_for(row[1], puts(row[0], form))
+
+
+def many_names(form):
+    return 1 + sum(many_names(inner) for inner in form[1:])
+
+
+def how_deep(form):
+    return 1 + max([how_deep(inner) for inner in form[1:]], default=0)
+
+
+def is_great(form):
+    return many_names(form) > 2000 or how_deep(form) > 200
+
+
+class Ended(Exception):
+    """The working out ends with these."""
+
+
+def worked(book, form, most):
+    """By the words: each answer is written out, and its asks are worked out in it, one by one, till none is left."""
+    verbs = {verb[0] for edition in book for verb in edition[4]}
+    rows = {edition[:2]: edition[6] for edition in book}
+    asks = []
+
+    def innermost_asks(tree):
+        found = [place for place in places(tree) if at_place(tree, place)[0] in verbs]
+        return [place for place in found if not any(len(other) > len(place) and other[:len(place)] == place for other in found)]
+
+    def comes_to(form):
+        if is_great(form):
+            raise Ended("great", form)
+        found = answers(book, form)
+        if found is None:
+            raise Ended("none", form)
+        if len(asks) == most:
+            raise Ended("many", form)
+        asks.append((form, *found))
+        tree = told_by(rows[found[0]][found[1]], form)
+        while innermost_asks(tree):
+            place = innermost_asks(tree)[0]
+            tree = put_at(tree, place, comes_to(at_place(tree, place)))
+        if is_great(tree):
+            raise Ended("great", form)
+        return tree
+
+    try:
+        return ("told", comes_to(form), tuple(asks))
+    except Ended as ended:
+        return (*ended.args, tuple(asks))
+
+
 def caught(function, *handed):
     """What a function tells, or the name and the values of what it refuses."""
     try:

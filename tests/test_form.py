@@ -25,6 +25,10 @@ INTERFACE = {
     "strangers": {"stranger": "book edition number"},
     "strangerlooks": {"shows_stranger": "book edition number thing"},
     "houses": {"part": "book keys", "who": "book form", "answers": "book form"},
+    "joining": {"joined": "book other"},
+    "coming": {"may_come": "book form"},
+    "working": {"worked": "book form most"},
+    "worklooks": {"shows_worked": "book form most thing"},
 }
 CLASSES = {
     "yards": {"Yard": {"publish": "self edition", "book": "self", "__len__": "self"}},
@@ -234,7 +238,9 @@ class Code(unittest.TestCase):
             for node in ast.walk(tree):
                 if isinstance(node, ast.Compare) and isinstance(node.ops[0], (ast.Is, ast.IsNot)):
                     right = node.comparators[0]
-                    if isinstance(right, ast.Name):
+                    if isinstance(right, ast.Call):
+                        self.assertEqual((type(node.ops[0]), node.left.func.id, right.func.id), (ast.Is, "type", "type"), name)
+                    elif isinstance(right, ast.Name):
                         self.assertIn(right.id, ("str", "int", "tuple", "bool"), name)
                         self.assertEqual(node.left.func.id, "type", name)
                     else:
@@ -242,8 +248,9 @@ class Code(unittest.TestCase):
 
     def test_type_stands_by_is_alone(self):
         for name, tree in trees().items():
-            compared = {id(node.left) for node in ast.walk(tree) if isinstance(node, ast.Compare)
-                        and isinstance(node.ops[0], (ast.Is, ast.IsNot)) and len(node.ops) == 1}
+            compared = {id(side) for node in ast.walk(tree) if isinstance(node, ast.Compare)
+                        and isinstance(node.ops[0], (ast.Is, ast.IsNot)) and len(node.ops) == 1
+                        for side in [node.left, *node.comparators]}
             for node in ast.walk(tree):
                 if isinstance(node, ast.Call) and isinstance(node.func, ast.Name) and node.func.id == "type":
                     self.assertIn(id(node), compared, (name, node.lineno))

@@ -1,0 +1,27 @@
+"""Editions that the program makes up to show something."""
+from aheadofholes.editions import GIVES, LINE, key_of
+from aheadofholes.trees import nth_name
+
+
+def keys_in(seen):
+    """The rising tuple of the keys of these editions."""
+    return tuple(sorted([key_of(edition) for edition in seen]))
+
+
+def next_with(line, seen, form):
+    """The next edition of a line, which sees just these editions and tells nothing but a row with this form as head."""
+    number = 1 + len([edition for edition in seen if edition[LINE] == line])
+    return (line, number, keys_in(seen), (), (), (), ((form, form),))
+
+
+def line_unlike(editions):
+    """A line that none of the editions is of, nor gives anything to."""
+    taken = {}
+    for edition in editions:
+        taken[edition[LINE]] = True
+        for _, line in edition[GIVES]:
+            taken[line] = True
+    number = 0
+    while nth_name(number) in taken:
+        number += 1
+    return nth_name(number)
