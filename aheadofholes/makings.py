@@ -1,6 +1,6 @@
 """Editions that the program makes up to show something."""
 from aheadofholes.editions import GIVES, LINE, key_of
-from aheadofholes.trees import nth_name
+from aheadofholes.trees import holes_in, nth_name, put_for
 
 
 def keys_in(seen):
@@ -25,3 +25,13 @@ def line_unlike(editions):
     while nth_name(number) in taken:
         number += 1
     return nth_name(number)
+
+
+def with_words(line, head):
+    """(edition, form): the line's first edition, which tells a word for each hole of a head, and the head with these.
+
+    The words have no parts, and the edition tells nothing else.
+    """
+    by = [(hole, (f"{line}.{nth_name(number)}",)) for number, hole in enumerate(holes_in(head))]
+    words = tuple(sorted([(word[0], ()) for _, word in by]))
+    return ((line, 1, (), words, (), (), ()), put_for(head, by))

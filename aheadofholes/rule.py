@@ -17,16 +17,28 @@ def fate(book, edition, number):
 
 def let_by(book, edition):
     """None where an edition may be put behind the book; refused with the first reason why it may not."""
+    hold_all_but_fates(book, edition)
+    seen = sight(book, edition)
+    _hold_fates(seen, lore_told([*seen, edition]), edition)
+
+
+def hold_all_but_fates(book, edition):
+    """Refuses an edition as let_by does, but not for what becomes of its rows."""
     if not is_edition(edition):
         raise NoEdition()
     _hold_place(book, edition)
     _hold_told(book, edition)
     seen = sight(book, edition)
-    lore = lore_told([*seen, edition])
-    _hold_names(lore, edition)
+    _hold_names(lore_told([*seen, edition]), edition)
     _hold_gives(seen, edition)
     _hold_holes(edition)
-    _hold_fates(seen, lore, edition)
+
+
+def hold_head(lore, head):
+    """Refuses a head with Unheard of its first name that the lore doesn't tell so."""
+    words, verbs = lore
+    _hold_trees([head], parts_by_name(verbs))
+    _hold_trees(trees_in(head)[1:], parts_by_name(words))
 
 
 def is_let_by(book, edition):
@@ -83,15 +95,15 @@ def _hold_told(book, edition):
 
 
 def _hold_names(lore, edition):
-    words, verbs = parts_by_name(lore[0]), parts_by_name(lore[1])
-    either = {**words, **verbs}
+    words, verbs = lore
+    told = parts_by_name(words + verbs)
+    kept = parts_by_name(verbs)
     for verb, _ in edition[GIVES]:
-        if verb not in verbs:
+        if verb not in kept:
             raise Unheard(verb)
     for head, answer in edition[ROWS]:
-        _hold_trees([head], verbs)
-        _hold_trees(trees_in(head)[1:], words)
-        _hold_trees(trees_in(answer), either)
+        hold_head(lore, head)
+        _hold_trees(trees_in(answer), told)
 
 
 def _hold_trees(trees, many):

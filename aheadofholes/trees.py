@@ -60,14 +60,7 @@ def begin_alike(one, other):
 
 def trees_in(tree):
     """The list of all trees that stand in a tree, itself first, as they come from the left as written."""
-    found = []
-    left = [tree]
-    while left:
-        part = left.pop()
-        found.append(part)
-        if not is_hole(part):
-            left.extend(part[:0:-1])
-    return found
+    return _trees_met(tree, -1)
 
 
 def trees_from_right(tree):
@@ -75,13 +68,17 @@ def trees_from_right(tree):
 
     Backwards, each tree stands behind its parts, and these from the left as written.
     """
+    return _trees_met(tree, 1)
+
+
+def _trees_met(tree, step):
     found = []
     left = [tree]
     while left:
         part = left.pop()
         found.append(part)
         if not is_hole(part):
-            left.extend(part[1:])
+            left.extend(part[1:][::step])
     return found
 
 

@@ -1,7 +1,7 @@
 """The plainest ways to what is told of editions and books, word by word as the document tells it. They may be slow."""
 import re
 
-from tests.reference import is_number
+from tests.reference import is_number, meet, read
 
 
 def is_text(thing, pattern):
@@ -325,6 +325,188 @@ def worked(book, form, most):
         return ("told", comes_to(form), tuple(asks))
     except Ended as ended:
         return (*ended.args, tuple(asks))
+
+
+NUMBER = "(?:0|[1-9][0-9]{0,5})"
+TREE = r"[a-z.(), ]*"
+ROWS = [rf"sees ([a-z]+) ({NUMBER})", rf"word ([a-z.]+)((?: {NUMBER})*)", rf"verb ([a-z.]+) ([a-z]+)((?: {NUMBER})*)",
+        r"gives ([a-z.]+) ([a-z]+)", rf"row ({TREE}) = ({TREE})"]
+
+
+def tree_text(tree):
+    if type(tree) is str or len(tree) == 1:
+        return "".join(tree)
+    return tree[0] + "(" + ", ".join(tree_text(inner) for inner in tree[1:]) + ")"
+
+
+def edition_text(edition):
+    line, number, sees, words, verbs, gives, rows = edition
+    told = [("edition", line, number)] + [("sees", *key) for key in sees] + [("word", full, *order) for full, order in words]
+    told += [("verb", full, way, *order) for full, order, way in verbs] + [("gives", *pair) for pair in gives]
+    told += [("row", tree_text(head), "=", tree_text(answer)) for head, answer in rows]
+    return "\n".join(" ".join(str(piece) for piece in row) for row in told)
+
+
+def book_text(book):
+    return "\n\n".join(edition_text(edition) for edition in book) or "none"
+
+
+def tree_of(text):
+    """The tree whose text it is, None of any other."""
+    try:
+        tree = read(text)
+    except IndexError:
+        return None
+    return tree if is_tree(tree) and tree_text(tree) == text else None
+
+
+def edition_of(text):
+    """The edition whose text it is, None of any other."""
+    if type(text) is not str:
+        return None
+    first, *rest = text.split("\n")
+    found = re.fullmatch(f"edition ([a-z]+) ({NUMBER})", first)
+    if not found:
+        return None
+    told = [[], [], [], [], []]
+    sorts = []
+    for row in rest:
+        fits_row = [(sort, re.fullmatch(pattern, row)) for sort, pattern in enumerate(ROWS) if re.fullmatch(pattern, row)]
+        if not fits_row:
+            return None
+        (sort, match), = fits_row
+        sorts.append(sort)
+        told[sort].append(read_row(sort, match.groups()))
+    made = (found[1], int(found[2]), *[tuple(row) for row in told])
+    return made if sorts == sorted(sorts) and is_edition(made) else None
+
+
+def read_row(sort, groups):
+    if sort == 0:
+        return (groups[0], int(groups[1]))
+    if sort in (1, 2):
+        return (groups[0], tuple(int(number) for number in groups[-1].split()), *groups[1:-1])
+    return tuple(groups) if sort == 3 else (tree_of(groups[0]), tree_of(groups[1]))
+
+
+def book_of(text):
+    """What read_book tells, or the name and the values of what it refuses."""
+    if text == "none" and type(text) is str:
+        return ()
+    book = tuple(edition_of(part) for part in text.split("\n\n")) if type(text) is str else (None,)
+    if None in book:
+        return ("NoText",)
+    for number, edition in enumerate(book):
+        if refusal(book[:number], edition) is not None:
+            return ("NotBook", number)
+    return book
+
+
+LINES = {"book": "book", "publish": "publish\n(.*)", "fate": f"fate ({NUMBER})\n(.*)", "stranger": f"stranger ({NUMBER})\n(.*)",
+         "who": "who (.*)", "ask": f"ask ({NUMBER}) (.*)", "meet": "meet (.*) & (.*)", "look": "look (.*)"}
+
+
+class Refused(Exception):
+    """What a desk refuses, by its name and its values."""
+
+
+def desk_says(book, line):
+    """(what a desk tells of a line or the name and the values of what it refuses, the book that it then has)."""
+    found = [(word, re.fullmatch(pattern, line, re.DOTALL)) for word, pattern in LINES.items() if type(line) is str]
+    found = [(word, match.groups()) for word, match in found if match]
+    if not found or (found[0][0] == "meet" and line[5:].count(" & ") != 1):
+        return ("NoLine", line), book
+    (word, groups), = found
+    try:
+        if word == "publish":
+            made = edition_read(groups[0])
+            hold(refusals(book, made))
+            return f"{made[0]} {made[1]}", book + (made,)
+        return TELLERS[word](book, *groups), book
+    except Refused as refused:
+        return refused.args, book
+
+
+def hold(refusals_due):
+    for refused in refusals_due:
+        raise Refused(*refused)
+
+
+def edition_read(text):
+    made = edition_of(text)
+    hold([("NoText",)] if made is None else [])
+    return made
+
+
+def row_read(book, number, text):
+    made = edition_read(text)
+    hold(refused for refused in refusals(book, made) if refused[0] not in ("Holed", "Answered", "Stray"))
+    hold([("NoRow", int(number))] if int(number) >= len(made[6]) else [])
+    return made, int(number)
+
+
+def tree_read(text):
+    tree = tree_of(text)
+    hold([("NoText",)] if tree is None else [])
+    return tree
+
+
+def head_read(text):
+    tree = tree_read(text)
+    hold([("NoText",)] if type(tree) is str else [])
+    return tree
+
+
+def book_lore(book):
+    return tuple(tuple(sorted(told for made in book for told in made[at])) for at in (3, 4))
+
+
+def hold_names(book, head):
+    words, verbs = [{(told[0], len(told[1])) for told in row} for row in book_lore(book)]
+    hold(("Unheard", name) for name in names_due(head, verbs, words))
+
+
+def form_read(book, text):
+    form = head_read(text)
+    hold([("NoText",)] if holes(form) else [])
+    hold_names(book, form)
+    return form
+
+
+def says_fate(book, number, text):
+    told = fate(book, *row_read(book, number, text))
+    return " ".join(str(piece) for row in told for piece in (row if type(row) is tuple else (row,)))
+
+
+def says_who(book, text):
+    found = answers(book, form_read(book, text))
+    return f"{found[0][0]} {found[0][1]} {found[1]}" if found else "-"
+
+
+def says_ask(book, most, text):
+    word, tree, _ = worked(book, form_read(book, text), int(most))
+    return f"{word} {tree_text(tree)}"
+
+
+def says_meet(book, one, other):
+    both = meet(head_read(one), head_read(other))
+    return tree_text(both) if both else "never"
+
+
+def says_look(book, text):
+    head = head_read(text)
+    hold_names(book, head)
+    return " ".join(symbol for _, symbol in looked(book_lore(book), head))
+
+
+def says_stranger(book, number, text):
+    """Which one is told isn't promised: whether any is, and what stands in its place where none is."""
+    made, number = row_read(book, number, text)
+    return "-" if fate(book, made, number)[0] not in ("holed", "stray") else (made, number)
+
+
+TELLERS = {"book": book_text, "fate": says_fate, "stranger": says_stranger, "who": says_who, "ask": says_ask,
+           "meet": says_meet, "look": says_look}
 
 
 def caught(function, *handed):

@@ -29,17 +29,21 @@ INTERFACE = {
     "coming": {"may_come": "book form"},
     "working": {"worked": "book form most"},
     "worklooks": {"shows_worked": "book form most thing"},
+    "idles": {"idle": "edition", "used": "book edition number"},
+    "partings": {"parted": "book one other"},
+    "texts": {"show_edition": "edition", "show_book": "book", "read_edition": "text", "read_book": "text"},
 }
 CLASSES = {
     "yards": {"Yard": {"publish": "self edition", "book": "self", "__len__": "self"}},
+    "desk": {"Desk": {"__init__": "self text", "say": "self line"}},
 }
 
 BUILTINS = set("""len range enumerate zip min max sum abs sorted reversed int str bool list tuple dict set isinstance any all
     divmod type ValueError""".split())
-METHODS = set("""append clear copy count endswith extend find get index insert items join keys pop remove replace reverse
-    setdefault split startswith update values add""".split())
+METHODS = set("""append clear copy count endswith extend find get index insert items join keys partition pop remove replace
+    reverse setdefault split startswith update values add""".split())
 STATEMENTS = """Module Expr ImportFrom alias FunctionDef ClassDef arguments arg Return Assign AugAssign For While If Raise
-    Break Continue Pass Delete Try ExceptHandler"""
+    Break Continue Pass Delete Try ExceptHandler Yield"""
 EXPRESSIONS = """BoolOp BinOp UnaryOp Lambda IfExp Dict Set ListComp SetComp DictComp GeneratorExp comprehension Compare
     Call keyword JoinedStr FormattedValue Constant Attribute Subscript Starred Name List Tuple Slice Load Store Del"""
 SIGNS = "And Or Add Sub Mult Not USub Eq NotEq Lt LtE Gt GtE Is IsNot In NotIn"
@@ -87,6 +91,22 @@ def own_names(tree):
         elif isinstance(node, ast.alias):
             found.append(node.asname or node.name)
     return found
+
+
+def functions_above(tree, row):
+    """The names of a file's own functions that stand above one of its rows."""
+    return [other.name for other in tree.body[:tree.body.index(row)] if isinstance(other, ast.FunctionDef)]
+
+
+def is_plain(value, functions):
+    """Whether what a file gives a name is written out, or is a dict of these functions by texts that are so."""
+    if isinstance(value, ast.Dict) and all(isinstance(worth, ast.Name) for worth in value.values):
+        return all(isinstance(key, ast.Constant) for key in value.keys) and {worth.id for worth in value.values} <= set(functions)
+    try:
+        ast.literal_eval(value)
+    except ValueError:
+        return False
+    return True
 
 
 def stars_in_brackets(tree):
@@ -186,7 +206,7 @@ class Code(unittest.TestCase):
                 self.assertIsInstance(row, (ast.ImportFrom, ast.FunctionDef, ast.ClassDef, ast.Assign), name)
                 if isinstance(row, ast.Assign):
                     self.assertEqual([type(target) for target in row.targets], [ast.Name], name)
-                    ast.literal_eval(row.value)
+                    self.assertTrue(is_plain(row.value, functions_above(tree, row)), (name, row.lineno))
             names = bound(tree)
             self.assertEqual(len(names), len(set(names)), name)
 
@@ -305,6 +325,15 @@ class Code(unittest.TestCase):
                     taken.add(id(node.value))
             for node in ast.walk(tree):
                 if isinstance(node, (ast.SetComp, ast.Set)):
+                    self.assertIn(id(node), taken, (name, node.lineno))
+
+    def test_what_yields_is_iterated_at_once_by_a_loop(self):
+        yields = {node.name for tree in trees().values() for node in ast.walk(tree)
+                  if isinstance(node, ast.FunctionDef) and any(isinstance(inner, ast.Yield) for inner in ast.walk(node))}
+        for name, tree in trees().items():
+            taken = {id(node.iter.func) for node in ast.walk(tree) if isinstance(node, ast.For) and isinstance(node.iter, ast.Call)}
+            for node in ast.walk(tree):
+                if isinstance(node, ast.Name) and node.id in yields:
                     self.assertIn(id(node), taken, (name, node.lineno))
 
     def test_errors_are_made_where_they_are_raised(self):
